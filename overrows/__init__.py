@@ -1,0 +1,1 @@
+"""Overrows: window queries over tables, planned, spilled to pages and kept live."""

@@ -1,0 +1,37 @@
+"""What the other files share: plain values, names and tuples."""
+
+
+def is_number(thing):
+    """Whether thing is a number; True and False are none."""
+    return isinstance(thing, int) and not isinstance(thing, bool)
+
+
+def is_number_from(least, thing):
+    """Whether thing is a number that is not below the least one."""
+    return is_number(thing) and thing >= least
+
+
+def is_name(thing):
+    """Whether thing is a NAME: one to eight letters a to z."""
+    if not isinstance(thing, str) or not 1 <= len(thing) <= 8:
+        return False
+    return all(["a" <= letter <= "z" for letter in thing])
+
+
+def is_cell(kind, thing):
+    """Whether thing may stand in a column of this kind."""
+    if kind == "number":
+        return thing is None or is_number(thing)
+    return thing is None or isinstance(thing, str)
+
+
+def is_tuple_of(many, thing):
+    """Whether thing is a tuple with so many items."""
+    return isinstance(thing, tuple) and len(thing) == many
+
+
+def tupled(value):
+    """The value with a tuple for each list, at any depth."""
+    if isinstance(value, (list, tuple)):
+        return tuple([tupled(item) for item in value])
+    return value

@@ -1,0 +1,93 @@
+"""Values that several tests share, and helpers to try calls in every allowed form."""
+
+import copy
+
+SHOP = (
+    (("kind", "text"), ("price", "number"), ("day", "number")),
+    (
+        (1, ("tea", 3, 1)),
+        (2, ("tea", 4, 2)),
+        (3, ("rice", 2, 1)),
+        (4, ("tea", 5, None)),
+        (5, ("rice", 2, 2)),
+    ),
+)
+COLUMNS = SHOP[0]
+NO_ROWS = (COLUMNS, ())
+
+# Values of every kind that a parameter called thing may have and that describe nothing.
+STRAY_VALUES = [
+    None, True, False, 0, 1, -1, 10 ** 40, "", "a", "tea", "nobody", "text",
+    (), [], (()), [()], ([],), (None,), (None, None), (None, None, None), (None, None, None, None),
+    (True, False), (1, 2), (1, 2, 3), (1, 2, 3, 4), ("a", "b"), ("abc"), "ab", "abc", "abcd",
+    ("a", ()), ((), "a"), ([], []), (((),), ((),)), ((((),),),), [[[[]]]], ((), (), ()), ((), (), (), ()),
+]
+
+
+def listed(value):
+    """The value with a list for each tuple, at any depth."""
+    if isinstance(value, (list, tuple)):
+        return [listed(item) for item in value]
+    return value
+
+
+def deep(levels):
+    """A tuple nested so many levels deep."""
+    value = ()
+    for _ in range(levels - 1):
+        value = (value,)
+    return value
+
+
+def strict(value):
+    """The value in a form in which 1, True and a list for a tuple are told apart."""
+    if isinstance(value, (list, tuple)):
+        return (type(value).__name__, [strict(item) for item in value])
+    return (type(value).__name__, value)
+
+
+def in_all_forms(case, function, **arguments):
+    """The answer of a call that must be the same by position, by name and with lists for tuples.
+
+    The parameter called thing stays as it is in all of them.
+    """
+    before = copy.deepcopy(arguments)
+    answer = function(*arguments.values())
+    case.assertEqual(strict(function(**arguments)), strict(answer))
+    turned_round = dict(reversed(list(arguments.items())))
+    case.assertEqual(strict(function(**turned_round)), strict(answer))
+    lists = {name: value if name == "thing" else listed(value) for name, value in arguments.items()}
+    kept = copy.deepcopy(lists)
+    case.assertEqual(strict(function(**lists)), strict(answer))
+    case.assertEqual(strict(function(*lists.values())), strict(answer))
+    case.assertEqual(strict(lists), strict(kept))
+    case.assertEqual(strict(arguments), strict(before))
+    return answer
+
+
+def error_in_all_forms(case, wanted, attributes, function, **arguments):
+    """Check that a call raises this error in every form, and leaves its arguments as they were."""
+    lists = {name: listed(value) for name, value in arguments.items()}
+    for form in (arguments, lists):
+        before = copy.deepcopy(form)
+        for call in (lambda: function(*form.values()), lambda: function(**form)):
+            with case.assertRaises(wanted) as caught:
+                call()
+            case.assertIs(type(caught.exception), wanted)
+            for name, value in attributes.items():
+                case.assertEqual(strict(getattr(caught.exception, name)), strict(value))
+        case.assertEqual(strict(form), strict(before))
+
+
+def each_true(case, function, things, **arguments):
+    """Check that the answer is True for each of these things, in every form of the other arguments."""
+    for thing in things:
+        with case.subTest(thing=thing):
+            case.assertIs(in_all_forms(case, function, **arguments, thing=thing), True)
+
+
+def each_false(case, function, things, **arguments):
+    """Check that the answer is False for each of these things, in every form of the other arguments."""
+    for thing in things:
+        with case.subTest(thing=thing):
+            case.assertIs(in_all_forms(case, function, **arguments, thing=thing), False)
