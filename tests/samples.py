@@ -46,7 +46,7 @@ def strict(value):
     return (type(value).__name__, value)
 
 
-def in_all_forms(case, function, **arguments):
+def in_all_forms(case, function, /, **arguments):
     """The answer of a call that must be the same by position, by name and with lists for tuples.
 
     The parameter called thing stays as it is in all of them.
@@ -65,7 +65,7 @@ def in_all_forms(case, function, **arguments):
     return answer
 
 
-def error_in_all_forms(case, wanted, attributes, function, **arguments):
+def error_in_all_forms(case, wanted, attributes, function, /, **arguments):
     """Check that a call raises this error in every form, and leaves its arguments as they were."""
     lists = {name: listed(value) for name, value in arguments.items()}
     for form in (arguments, lists):
@@ -79,15 +79,50 @@ def error_in_all_forms(case, wanted, attributes, function, **arguments):
         case.assertEqual(strict(form), strict(before))
 
 
-def each_true(case, function, things, **arguments):
+def each_true(case, function, things, /, **arguments):
     """Check that the answer is True for each of these things, in every form of the other arguments."""
     for thing in things:
         with case.subTest(thing=thing):
             case.assertIs(in_all_forms(case, function, **arguments, thing=thing), True)
 
 
-def each_false(case, function, things, **arguments):
+def each_false(case, function, things, /, **arguments):
     """Check that the answer is False for each of these things, in every form of the other arguments."""
     for thing in things:
         with case.subTest(thing=thing):
             case.assertIs(in_all_forms(case, function, **arguments, thing=thing), False)
+
+
+ALL_SO_FAR = (("kind",), (("day", "up", "last"),), ("rows", ("start",), ("here",), "nobody"))
+RUNNING = ALL_SO_FAR[2]
+UNITS = ("rows", "range", "groups")
+WITHOUTS = ("nobody", "row", "group", "ties")
+
+
+def inner_bounds(numbers):
+    """The bounds that may stand on either side, with each of these numbers."""
+    return [("here",)] + [(word, number) for word in ("before", "after") for number in numbers]
+
+
+def frames_with(units, numbers, withouts):
+    """Every FRAME of these units and ways to leave rows out whose bounds have these numbers."""
+    lows = [("start",)] + inner_bounds(numbers)
+    highs = [("end",)] + inner_bounds(numbers)
+    return [(unit, low, high, without)
+            for unit in units for low in lows for high in highs for without in withouts]
+
+
+def line_of_values(way, values):
+    """The LINE of a partition that is ordered by one column of numbers with these cells."""
+    entries = []
+    for value in values:
+        if entries and entries[-1][1] == value:
+            entries.append(entries[-1])
+        else:
+            entries.append((entries[-1][0] + 1 if entries else 0, value))
+    return (way, tuple(entries))
+
+
+def line_of_sizes(sizes):
+    """The LINE of a partition with peer groups of these sizes, whose order gives its rows no value."""
+    return ("up", tuple((group, None) for group, size in enumerate(sizes) for _ in range(size)))

@@ -17,6 +17,33 @@ FUNCTIONS = {
         "is_order": ["columns", "thing"],
         "ordered": ["table", "order"],
     },
+    "parts": {
+        "is_window": ["columns", "thing"],
+        "partitions": ["table", "window"],
+        "partition_of": ["table", "window", "number"],
+        "peers": ["table", "window", "number"],
+        "is_ahead": ["table", "window", "one", "other"],
+    },
+    "functions": {
+        "is_call": ["columns", "thing"],
+        "kind_of": ["columns", "call"],
+        "reads_frame": ["function"],
+        "call_value": ["call", "look"],
+    },
+    "ranks": {
+        "rank_looks": ["function", "line"],
+    },
+    "frames": {
+        "is_frame": ["thing"],
+        "frame_fits": ["frame", "order", "columns"],
+        "line_of": ["table", "window", "numbers"],
+        "bounds": ["line", "place", "frame"],
+        "pieces": ["line", "place", "frame"],
+        "stretches": ["line", "place", "frame"],
+        "frame_places": ["line", "place", "frame"],
+        "turned": ["frame"],
+        "holders": ["line", "place", "frame"],
+    },
 }
 
 

@@ -193,8 +193,9 @@ class Code(unittest.TestCase):
         for _, node in nodes(ast.Call):
             if isinstance(node.func, ast.Name) and len(node.args) == 1 and node.func.id in ("len", "sorted"):
                 fine.add(ast.dump(node.args[0]))
-        for name, node in nodes(ast.SetComp):
-            self.assertIn(ast.dump(node), fine, f"{name} {node.lineno}")
+        for name, node in nodes((ast.SetComp, ast.Call)):
+            if isinstance(node, ast.SetComp) or getattr(node.func, "id", "") == "set":
+                self.assertIn(ast.dump(node), fine, f"{name} {node.lineno}")
         for name, node in nodes(ast.Call):
             if isinstance(node.func, ast.Name) and node.func.id in TAKES_A_LIST:
                 for argument in node.args:
