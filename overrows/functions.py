@@ -1,9 +1,7 @@
 """Functions: what a figure may call, and the value that follows from a look."""
 
-from math import gcd
-
 from overrows.tables import kind_among
-from overrows.values import is_cell, is_number_from, is_tuple_of
+from overrows.values import fraction, is_cell, is_number_from, is_tuple_of
 
 RANKS = ("row", "rank", "dense", "percent", "share", "tile")
 OFFSETS = ("earlier", "later", "first", "last", "nth")
@@ -54,7 +52,22 @@ def call_value(call, look):
         return _rank_value(function, arguments, look)
     if function in OFFSETS:
         return _offset_value(function, arguments, look)
-    return _sum_value(function, _counted(arguments, look))
+    return sum_value(function, _counted(arguments, look))
+
+
+def sum_value(function, taken):
+    """The value of a sum of these entries, unlike ones only if it asks for such."""
+    if function == "count":
+        return len(taken)
+    if len(taken) == 0:
+        return None
+    if function == "joined":
+        return ",".join(taken)
+    if function == "least":
+        return min(taken)
+    if function == "most":
+        return max(taken)
+    return sum(taken) if function == "sum" else fraction(sum(taken), len(taken))
 
 
 def _fit_rank(function, arguments):
@@ -87,9 +100,9 @@ def _fit_sum(columns, function, arguments):
 
 def _rank_value(function, arguments, look):
     if function == "percent":
-        return _fraction(look[0], look[1] - 1) if look[1] > 1 else (0, 1)
+        return fraction(look[0], look[1] - 1) if look[1] > 1 else (0, 1)
     if function == "share":
-        return _fraction(look[0], look[1])
+        return fraction(look[0], look[1])
     if function == "tile":
         return _tile(arguments[0], look[0], look[1])
     return look[0] + 1
@@ -116,23 +129,3 @@ def _counted(arguments, look):
         return list(look)
     # A dict keeps the order in which its keys come first.
     return list({value: True for value in look})
-
-
-def _sum_value(function, taken):
-    if function == "count":
-        return len(taken)
-    if len(taken) == 0:
-        return None
-    if function == "joined":
-        return ",".join(taken)
-    if function == "least":
-        return min(taken)
-    if function == "most":
-        return max(taken)
-    return sum(taken) if function == "sum" else _fraction(sum(taken), len(taken))
-
-
-def _fraction(numerator, denominator):
-    """The FRACTION in lowest terms; the denominator is from 1."""
-    divisor = gcd(numerator, denominator)
-    return numerator // divisor, denominator // divisor

@@ -1,4 +1,6 @@
-"""What the other files share: plain values, names and tuples."""
+"""What the other files share: plain values, names, tuples and fractions."""
+
+from math import gcd
 
 
 def is_number(thing):
@@ -35,3 +37,9 @@ def tupled(value):
     if isinstance(value, (list, tuple)):
         return tuple([tupled(item) for item in value])
     return value
+
+
+def fraction(numerator, denominator):
+    """The FRACTION in lowest terms; the denominator is from 1."""
+    divisor = gcd(numerator, denominator)
+    return numerator // divisor, denominator // divisor

@@ -1,6 +1,7 @@
 """Values that several tests share, and helpers to try calls in every allowed form."""
 
 import copy
+import itertools
 
 SHOP = (
     (("kind", "text"), ("price", "number"), ("day", "number")),
@@ -126,3 +127,42 @@ def line_of_values(way, values):
 def line_of_sizes(sizes):
     """The LINE of a partition with peer groups of these sizes, whose order gives its rows no value."""
     return ("up", tuple((group, None) for group, size in enumerate(sizes) for _ in range(size)))
+
+
+def value_lines(longest, numbers):
+    """Every LINE by one column of numbers, of at most so many places, with these values and rows without one."""
+    found = []
+    for many in range(1, longest + 1):
+        for nulls in range(many + 1):
+            for values in itertools.combinations_with_replacement(numbers, many - nulls):
+                unknown = (None,) * nulls
+                for way, known in (("up", values), ("down", values[::-1])):
+                    found.append(line_of_values(way, unknown + known))
+                    found.append(line_of_values(way, known + unknown))
+    return list(dict.fromkeys(found))
+
+
+def size_lines(longest):
+    """Every LINE whose order gives no values, of at most so many places."""
+    found = []
+    for many in range(1, longest + 1):
+        for cuts in itertools.product((False, True), repeat=many - 1):
+            sizes = [1]
+            for cut in cuts:
+                if cut:
+                    sizes.append(1)
+                else:
+                    sizes[-1] += 1
+            found.append(line_of_sizes(sizes))
+    return found
+
+
+def lines_and_frames(longest, numbers, withouts):
+    """Pairs of LINEs and FRAMEs that may stand with them: without values no range has a number."""
+    values = value_lines(longest, (0, 1, 3))
+    for line in values:
+        for frame in frames_with(UNITS, numbers, withouts):
+            yield line, frame
+    for line in size_lines(longest):
+        for frame in frames_with(("rows", "groups"), numbers, withouts) + frames_with(("range",), (), withouts):
+            yield line, frame

@@ -9,39 +9,11 @@ from overrows.frames import (
 from overrows.parts import partitions
 from tests.samples import (
     COLUMNS, RUNNING, SHOP, STRAY_VALUES, UNITS, WITHOUTS, deep, each_false, each_true, frames_with, in_all_forms,
-    line_of_sizes, line_of_values, listed,
+    line_of_sizes, line_of_values, lines_and_frames, listed,
 )
 
 DAYS = ("up", ((0, 1), (0, 1), (1, 2), (1, 2), (2, None)))
 TEN = line_of_sizes([2, 1, 3, 1, 3])
-
-
-def value_lines(longest, numbers):
-    """Every LINE by one column of numbers, of at most so many places, with these values and rows without one."""
-    found = []
-    for many in range(1, longest + 1):
-        for nulls in range(many + 1):
-            for values in itertools.combinations_with_replacement(numbers, many - nulls):
-                unknown = (None,) * nulls
-                for way, known in (("up", values), ("down", values[::-1])):
-                    found.append(line_of_values(way, unknown + known))
-                    found.append(line_of_values(way, known + unknown))
-    return list(dict.fromkeys(found))
-
-
-def size_lines(longest):
-    """Every LINE whose order gives no values, of at most so many places."""
-    found = []
-    for many in range(1, longest + 1):
-        for cuts in itertools.product((False, True), repeat=many - 1):
-            sizes = [1]
-            for cut in cuts:
-                if cut:
-                    sizes.append(1)
-                else:
-                    sizes[-1] += 1
-            found.append(line_of_sizes(sizes))
-    return found
 
 
 def bound_in_words(line, place, unit, bound, is_low):
@@ -111,17 +83,6 @@ def as_stretches(places):
         else:
             found.append((place, place))
     return tuple(found)
-
-
-def lines_and_frames(longest, numbers, withouts):
-    """Pairs of LINEs and FRAMEs that may stand with them: without values no range has a number."""
-    values = value_lines(longest, (0, 1, 3))
-    for line in values:
-        for frame in frames_with(UNITS, numbers, withouts):
-            yield line, frame
-    for line in size_lines(longest):
-        for frame in frames_with(("rows", "groups"), numbers, withouts) + frames_with(("range",), (), withouts):
-            yield line, frame
 
 
 class IsFrame(unittest.TestCase):

@@ -44,6 +44,26 @@ FUNCTIONS = {
         "turned": ["frame"],
         "holders": ["line", "place", "frame"],
     },
+    "offsets": {
+        "offset_looks": ["call", "cells", "line", "frame"],
+    },
+    "sums": {
+        "bare": ["function", "unlike"],
+        "lifted": ["function", "unlike", "value"],
+        "joined_states": ["function", "unlike", "early", "late"],
+        "taken_away": ["function", "unlike", "state", "part"],
+        "state_value": ["function", "unlike", "state"],
+    },
+    "ways": {
+        "ways_of": ["function", "unlike"],
+        "reckoned": ["function", "unlike", "cells", "line", "frame", "way"],
+    },
+    "needs": {
+        "needs": ["figures"],
+        "serves": ["sort", "need"],
+        "can_share": ["one", "other"],
+        "sort_for": ["needs"],
+    },
 }
 
 
