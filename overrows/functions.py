@@ -27,7 +27,7 @@ def is_call(columns, thing):
         return _fit_rank(function, arguments)
     if function in OFFSETS:
         return _fit_offset(columns, function, arguments)
-    return function in SUM_KINDS and _fit_sum(columns, function, arguments)
+    return is_sum(function) and _fit_sum(columns, function, arguments)
 
 
 def kind_of(columns, call):
@@ -42,7 +42,12 @@ def kind_of(columns, call):
 
 def reads_frame(function):
     """Whether the function reads the frame."""
-    return function in SUM_KINDS or function in ("first", "last", "nth")
+    return is_sum(function) or function in ("first", "last", "nth")
+
+
+def is_sum(function):
+    """Whether the function is a sum."""
+    return function in SUM_KINDS
 
 
 def call_value(call, look):

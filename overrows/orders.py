@@ -1,5 +1,7 @@
 """Orders: which row stands ahead of which."""
 
+from math import lcm
+
 from overrows.tables import column_of, kind_among
 from overrows.values import is_tuple_of
 
@@ -31,9 +33,19 @@ def _column_cells(table, name):
 
 def _item_keys(cells, way, nulls):
     """For each cell a number, the lesser the further ahead its row stands by one item."""
+    measures = _measures(cells)
     # Texts have no negative to turn their order around, but their places have one.
-    known = sorted({cell for cell in cells if cell is not None})
+    known = sorted({measure for measure in measures if measure is not None})
     sign = 1 if way == "up" else -1
-    keys = {cell: sign * place for place, cell in enumerate(known)}
+    keys = {measure: sign * place for place, measure in enumerate(known)}
     keys[None] = -len(cells) if nulls == "first" else len(cells)
-    return [keys[cell] for cell in cells]
+    return [keys[measure] for measure in measures]
+
+
+def _measures(cells):
+    """The cells, FRACTIONs among them counted in parts of one common denominator."""
+    whole = 1
+    for cell in cells:
+        if isinstance(cell, tuple):
+            whole = lcm(whole, cell[1])
+    return [cell[0] * (whole // cell[1]) if isinstance(cell, tuple) else cell for cell in cells]

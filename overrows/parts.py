@@ -19,10 +19,7 @@ def is_window(columns, thing):
 def partitions(table, window):
     """The list of the partitions, by their least ROW NUMBERs, each in the WINDOW's order."""
     parts, order, _ = window
-    found = {}
-    for number in ordered(table, order):
-        found.setdefault(named_cells(table, number, parts), []).append(number)
-    return sorted([tuple(numbers) for numbers in found.values()], key=min)
+    return sorted(grouped(table, parts, ordered(table, order)), key=min)
 
 
 def partition_of(table, window, number):
@@ -46,6 +43,14 @@ def is_ahead(table, window, one, other):
     # Asked only so that a missing row raises NoRow.
     cells_of(table, other)
     return other in partition and partition.index(one) < partition.index(other)
+
+
+def grouped(table, names, numbers):
+    """The list of the tuples of those ROW NUMBERs whose rows are alike in these columns, in the order given."""
+    found = {}
+    for number in numbers:
+        found.setdefault(named_cells(table, number, names), []).append(number)
+    return [tuple(group) for group in found.values()]
 
 
 def _are_parts(columns, thing):

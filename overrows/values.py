@@ -27,6 +27,13 @@ def is_cell(kind, thing):
     return thing is None or isinstance(thing, str)
 
 
+def is_fraction(thing):
+    """Whether thing is a FRACTION: a pair in lowest terms with a denominator from 1."""
+    if not is_tuple_of(2, thing) or not is_number(thing[0]) or not is_number_from(1, thing[1]):
+        return False
+    return gcd(thing[0], thing[1]) == 1
+
+
 def is_tuple_of(many, thing):
     """Whether thing is a tuple with so many items."""
     return isinstance(thing, tuple) and len(thing) == many
@@ -43,3 +50,16 @@ def fraction(numerator, denominator):
     """The FRACTION in lowest terms; the denominator is from 1."""
     divisor = gcd(numerator, denominator)
     return numerator // divisor, denominator // divisor
+
+
+def is_less(one, other):
+    """Whether one value is less than another one of its kind, numbers and FRACTIONs by their size."""
+    if isinstance(one, str):
+        return one < other
+    numerator, denominator = _as_fraction(one)
+    other_numerator, other_denominator = _as_fraction(other)
+    return numerator * other_denominator < other_numerator * denominator
+
+
+def _as_fraction(value):
+    return (value, 1) if is_number(value) else value

@@ -40,6 +40,25 @@ def deep(levels):
     return value
 
 
+def one_part_replaced(value, others):
+    """Every value that is this one with one of the others in place of one part of it, or of the whole."""
+    yield from others
+    if isinstance(value, tuple):
+        for place, item in enumerate(value):
+            for changed in one_part_replaced(item, others):
+                yield value[:place] + (changed,) + value[place + 1:]
+
+
+def one_part_more_or_less(value):
+    """Every value that is this one with one part of it twice, or left out."""
+    if isinstance(value, tuple):
+        for place, item in enumerate(value):
+            yield value[:place] + value[place + 1:]
+            yield value[:place] + (item,) + value[place:]
+            for changed in one_part_more_or_less(item):
+                yield value[:place] + (changed,) + value[place + 1:]
+
+
 def strict(value):
     """The value in a form in which 1, True and a list for a tuple are told apart."""
     if isinstance(value, (list, tuple)):

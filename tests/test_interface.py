@@ -58,6 +58,27 @@ FUNCTIONS = {
         "ways_of": ["function", "unlike"],
         "reckoned": ["function", "unlike", "cells", "line", "frame", "way"],
     },
+    "conditions": {
+        "is_condition": ["columns", "thing"],
+        "truth": ["columns", "condition", "cells"],
+        "names_in": ["condition"],
+        "kept": ["table", "condition"],
+    },
+    "plain": {
+        "is_figure": ["columns", "thing"],
+        "is_query": ["columns", "thing"],
+        "look": ["table", "figure", "number"],
+        "figures": ["table", "query"],
+        "answer": ["table", "query"],
+    },
+    "plans": {
+        "is_plan": ["columns", "figures", "thing"],
+        "run_plan": ["table", "query", "plan"],
+        "fewest_sorts": ["figures"],
+        "fewest_plan": ["figures"],
+        "apart": ["figures"],
+        "shows_fewest": ["figures", "plan", "thing"],
+    },
     "needs": {
         "needs": ["figures"],
         "serves": ["sort", "need"],

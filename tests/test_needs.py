@@ -95,14 +95,15 @@ class Needs(unittest.TestCase):
         self.assertEqual(in_all_forms(self, needs, figures=()), [])
 
     def test_short_orders(self):
+        down = order_of("price", way=DOWN)
         for parts, order, wanted in [
             (("kind",), order_of("kind"), (("kind",), ())),
             ((), order_of("kind"), ((), order_of("kind"))),
             (("price", "kind"), (), (("kind", "price"), ())),
             (("price", "kind"), order_of("kind", "day", "price"), (("kind", "price"), order_of("day"))),
             ((), order_of("day", "day"), ((), order_of("day"))),
-            ((), order_of("day") + order_of("price", "day", way=DOWN), ((), order_of("day") + order_of("price", way=DOWN))),
-            (("day",), order_of("price") + order_of("day") + order_of("price", way=DOWN), (("day",), order_of("price"))),
+            ((), order_of("day") + down + order_of("day", way=DOWN), ((), order_of("day") + down)),
+            (("day",), order_of("price") + order_of("day") + down, (("day",), order_of("price"))),
         ]:
             self.assertEqual(self.need("rank", (), (parts, order, RUNNING)), wanted + (False,))
 
@@ -182,7 +183,7 @@ class Sharing(unittest.TestCase):
             need for need in needs_of("abc", 3, (UP,)) + [((), order_of("a", way=DOWN), False)]
         ]
         all_sorts = sorts_of("abc", (UP, DOWN))
-        served = [{number for number, sort in enumerate(all_sorts) if serves_in_words(sort, need)} for need in all_needs]
+        served = [{sort for sort in all_sorts if serves_in_words(sort, need)} for need in all_needs]
         for one, other in itertools.product(range(len(all_needs)), repeat=2):
             wanted = bool(served[one] & served[other])
             self.assertIs(can_share(all_needs[one], all_needs[other]), wanted, (all_needs[one], all_needs[other]))

@@ -158,7 +158,8 @@ class Reckoned(unittest.TestCase):
         line, cells = line_of_sizes([1] * 6), tuple((number,) for number in range(6))
         # Three rows come for a join each, four turn over for 3, and then the old pile goes together with the young one.
         frame = ("rows", ("before", 2), ("here",), "nobody")
-        self.assertEqual(self.reckoned("sum", cells, line, frame, "piles"), ([0, 1, 3, 6, 9, 12], 1 + 1 + 1 + 3 + 1 + 2))
+        joins = 1 + 1 + 1 + 3 + 1 + 2
+        self.assertEqual(self.reckoned("sum", cells, line, frame, "piles"), ([0, 1, 3, 6, 9, 12], joins))
         # No row stays from frame to frame, so nothing is turned over.
         frame = ("rows", ("here",), ("here",), "nobody")
         self.assertEqual(self.reckoned("sum", cells, line, frame, "piles"), ([0, 1, 2, 3, 4, 5], 0))
