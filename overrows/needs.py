@@ -65,7 +65,7 @@ def _only_hope(wanted):
     """A SORT that serves all NEEDs of a list, if there is one."""
     items = []
     for _ in range(max([len(parts) + len(order) for parts, order, _ in wanted])):
-        items.extend(_next_item(wanted, items))
+        items = items + _next_item(wanted, items)
     return tuple(items)
 
 
