@@ -85,6 +85,17 @@ FUNCTIONS = {
         "can_share": ["one", "other"],
         "sort_for": ["needs"],
     },
+    "passing": {
+        "may_pass": ["columns", "figures", "condition"],
+        "moved": ["columns", "query"],
+    },
+    "parting": {
+        "parting": ["columns", "figures", "condition"],
+        "shows_parting": ["columns", "figures", "condition", "thing"],
+    },
+    "touched": {
+        "touched": ["table", "later", "query"],
+    },
 }
 
 
@@ -98,6 +109,11 @@ class Interface(unittest.TestCase):
                     self.assertTrue(inspect.isfunction(function))
                     self.assertEqual(function.__module__, f"overrows.{file}")
                     self.assertEqual(list(inspect.signature(function).parameters), arguments)
+
+    def test_the_board_stands_in_its_file(self):
+        module = importlib.import_module("overrows.live")
+        self.assertTrue(inspect.isclass(module.Board))
+        self.assertEqual(module.Board.__module__, "overrows.live")
 
 
 if __name__ == "__main__":

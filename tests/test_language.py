@@ -190,7 +190,7 @@ class Code(unittest.TestCase):
                     self.assertFalse(set(re.findall(r"\w+", node.value)) & BARRED_WORDS, path.name)
 
     def test_sets_and_generators_stand_where_they_may(self):
-        for name, node in nodes((ast.Set, ast.FormattedValue, ast.Yield, ast.YieldFrom, ast.Lambda, ast.NamedExpr)):
+        for name, node in nodes((ast.Set, ast.Yield, ast.YieldFrom, ast.Lambda, ast.NamedExpr)):
             self.fail(f"{name} {node.lineno}: not used so far, extend this test with the rules for it")
         fine = set()
         for _, node in nodes(ast.Call):
@@ -203,6 +203,22 @@ class Code(unittest.TestCase):
             if isinstance(node.func, ast.Name) and node.func.id in TAKES_A_LIST:
                 for argument in node.args:
                     self.assertNotIsInstance(argument, ast.GeneratorExp, f"{name} {node.lineno}")
+
+    def test_strings_with_braces_stay_plain(self):
+        for name, node in nodes(ast.FormattedValue):
+            self.assertEqual((node.conversion, node.format_spec), (-1, None), f"{name} {node.lineno}")
+            self.assertEqual(node.lineno, node.end_lineno, f"{name} {node.lineno}")
+            for inner in ast.walk(node.value):
+                self.assertNotIsInstance(getattr(inner, "value", None), str, f"{name} {node.lineno}")
+
+    def test_errors_are_caught_by_own_names_and_finally_is_simple(self):
+        own = {node.name for _, node in nodes(ast.ClassDef)}
+        for name, node in nodes(ast.Try):
+            for handler in node.handlers:
+                caught = handler.type.elts if isinstance(handler.type, ast.Tuple) else [handler.type]
+                self.assertLessEqual({error.id for error in caught}, own, f"{name} {node.lineno}")
+            for step in node.finalbody:
+                self.assertRegex(ast.unparse(step), r"^self\._[a-z]+\.append\(\('\w+', '\w+'\)\)$")
 
 
 if __name__ == "__main__":
