@@ -96,6 +96,28 @@ FUNCTIONS = {
     "touched": {
         "touched": ["table", "later", "query"],
     },
+    "reasons": {
+        "why": ["table", "figure", "number"],
+        "shows_why": ["table", "figure", "number", "thing"],
+        "look_shown": ["table", "figure", "reason"],
+    },
+    "pages": {
+        "runs": ["table", "sort", "room", "page"],
+        "merges": ["lengths", "room", "page"],
+        "moved_by": ["lengths", "merges"],
+        "shows_merges": ["lengths", "room", "page", "thing"],
+        "spilled": ["table", "query", "plan", "room", "page"],
+    },
+    "texts": {
+        "query_in": ["columns", "text"],
+        "windows_in": ["columns", "text"],
+        "same_query": ["columns", "one", "other"],
+        "query_text": ["query"],
+        "named_text": ["query"],
+    },
+    "desk": {
+        "answers": ["text"],
+    },
 }
 
 

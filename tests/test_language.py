@@ -34,7 +34,7 @@ BARRED_WORDS = set(
 )
 LIBRARY = {"math": {"gcd", "lcm", "isqrt", "comb"}, "heapq": {"heappush", "heappop"}}
 # The interface itself calls these parameters as it calls a function of the same file.
-SAME_BY_THE_INTERFACE = {"needs.py": {"needs"}}
+SAME_BY_THE_INTERFACE = {"needs.py": {"needs"}, "pages.py": {"merges"}}
 TAKES_A_LIST = ("any", "all", "min", "max", "sum", "sorted")
 
 
