@@ -99,7 +99,8 @@ def parted_table(columns, figure, condition, many, luck, most):
     else:
         tried = (([luck.choice(cells) for _ in range(many)], luck.choice(shown)) for _ in range(most))
     for placed, values in tried:
-        table = (columns, tuple((number, (*one, value, None)) for number, (one, value) in enumerate(zip(placed, values))))
+        table = (columns, tuple((number, (*one, value, None)) for number,
+                                (one, value) in enumerate(zip(placed, values))))
         if is_parted(table, figure, condition):
             return table
     return None

@@ -40,18 +40,22 @@ class Answers(unittest.TestCase):
         self.check(SHEET, [])
         self.check("column a text\nboard\nfigures\nanswer\nsorts\nfilters\ncomputed\nundo\nwhy 0 a",
                    ["-", "-", "0", "", "0", "nothing", "refused NoColumn"])
-        self.check('column a text\nrow 7 "b"\nrow 2 null\nboard\nfigures\nanswer\nadd 3 null\nfigures\ndelete 2\nundo\nfigures',
+        self.check('column a text\nrow 7 "b"\nrow 2 null\nboard\nfigures\nanswer\nadd 3 null\nfigures\n'
+                   "delete 2\nundo\nfigures",
                    ["2; 7", "2; 7", "-", "2; 3; 7", "-", "done", "2; 3; 7"])
-        self.check("column a text\nfigure f = row() over ()\nboard\nfigures\nanswer\nwhy 1 f", ["-", "-", "refused NoRow"])
+        self.check("column a text\nfigure f = row() over ()\nboard\nfigures\nanswer\nwhy 1 f",
+                   ["-", "-", "refused NoRow"])
 
     def test_values(self):
         text = ('column a text\ncolumn b number\nrow 0 "q""q", -5\nrow 10 null, null\nrow 3 "", 0\n'
                 'figure first = first(a) over (order b first)\nfigure mean = mean(b) over ()\n'
-                'figure order = percent() over (order b down last)\nfigure last = last(a, passed) over (order b)\nboard\n')
+                'figure order = percent() over (order b down last)\n'
+                'figure last = last(a, passed) over (order b)\nboard\n')
         text = text.replace("figure first", "figure .first").replace("figure order", "figure .order")
         text = text.replace("figure last", "figure .last")
         self.check(text + "figures", ['0 null -5/2 1/2 "q""q"; 3 null -5/2 0/1 ""; 10 null -5/2 1/1 ""'])
-        self.check(text + 'add 5 "b", 1', ["0 mean look; 0 order look; 3 mean look; 3 order look; 5 first new; 5 last new; 5 mean new; "
+        self.check(text + 'add 5 "b", 1',
+                   ["0 mean look; 0 order look; 3 mean look; 3 order look; 5 first new; 5 last new; 5 mean new; "
                                            "5 order new; 10 last look; 10 mean look; 10 order look"])
         self.check(text + "filters", [text.split("\nboard")[0].split(", 0\n")[1].replace("\n", " / ")])
 
@@ -67,9 +71,12 @@ class Answers(unittest.TestCase):
                     "3 p look; 4 d new; 4 e new; 4 p new; 4 s new", "3; 3 4"])
 
     def test_refusals_leave_all_as_it_was(self):
-        wrong = ['add 1 "tea", 3', 'add 1 "tea"', 'add 9 "tea"', 'add 9 "tea", "3"', "add 9 3, 3", "add 9 null, null, null",
-                 "change 9 3", 'change 1 "tea", "x"', "change 1 null", "delete 9", "delete 999999999999999", "why 9 n", "why 1 price"]
-        names = ["Taken", "Taken", "BadCells", "BadCells", "BadCells", "BadCells", "NoRow", "BadCells", "BadCells", "NoRow", "NoRow",
+        wrong = ['add 1 "tea", 3', 'add 1 "tea"', 'add 9 "tea"', 'add 9 "tea", "3"', "add 9 3, 3",
+                 "add 9 null, null, null",
+                 "change 9 3", 'change 1 "tea", "x"', "change 1 null", "delete 9", "delete 999999999999999", "why 9 n",
+                 "why 1 price"]
+        names = ["Taken", "Taken", "BadCells", "BadCells", "BadCells", "BadCells", "NoRow", "BadCells", "BadCells",
+                 "NoRow", "NoRow",
                  "NoRow", "NoColumn"]
         before = answers(SHEET + ALL)
         for request, name in zip(wrong, names):
@@ -77,8 +84,9 @@ class Answers(unittest.TestCase):
             self.assertEqual(found, ["refused " + name, *before, "refused " + name, "nothing"])
 
     def test_undo(self):
-        self.check(SHEET + "\nundo\nadd 2 null, 5\nchange 2 null, 6\ndelete 1\nundo\nundo\nundo\nundo\nfigures\ncomputed",
-                   ["nothing", "2 n new", "-", "1 n gone; 4 n look", "done", "done", "done", "nothing", "1 1; 4 2", "4"])
+        self.check(SHEET + "\nundo\nadd 2 null, 5\nchange 2 null, 6\ndelete 1" + 4 * "\nundo" + "\nfigures\ncomputed",
+                   ["nothing", "2 n new", "-", "1 n gone; 4 n look", "done", "done", "done", "nothing", "1 1; 4 2",
+                    "4"])
 
     def test_requests_of_the_same_sheet_again(self):
         text = SHEET + ALL + '\nadd 2 "tea", 1\n' + "delete 1" + ALL
@@ -90,19 +98,23 @@ class Answers(unittest.TestCase):
     def test_lines_and_blanks(self):
         text = SHEET.replace("\n", "\n\n  \n").replace("(by kind", "( by  .kind") + "\n\n  figures  \n why  1  .n\n"
         self.check(text, ["1 1; 4 2", "1"])
-        self.check("column.column text\ncolumn text text\ncolumn number number\ncolumn .row number\ncolumn board text\ncolumn undo text\n"
-                   'row 1 "a","b",3,4,null,"c"\nfigure why=first(undo)over(by column,.row)\nboard\nfigures\nwhy 1 why\nwhy 1 .undo',
+        self.check("column.column text\ncolumn text text\ncolumn number number\ncolumn .row number\n"
+                   'column board text\ncolumn undo text\nrow 1 "a","b",3,4,null,"c"\n'
+                   "figure why=first(undo)over(by column,.row)\nboard\nfigures\nwhy 1 why\nwhy 1 .undo",
                    ['1 "c"', "1", "refused NoColumn"])
 
     def test_rows_in_any_order(self):
-        self.check('column a number\nrow 9 1\nrow 2 3\nrow 4 null\nfigure r = row() over (order a)\norder r\nboard\nanswer\nfigures',
+        self.check("column a number\nrow 9 1\nrow 2 3\nrow 4 null\nfigure r = row() over (order a)\norder r\n"
+                   "board\nanswer\nfigures",
                    ["9 1; 2 2; 4 3", "2 2; 4 3; 9 1"])
 
     def test_sorts_and_filters(self):
-        text = ("column a number\ncolumn b number\nfigure x = row() over (by a order b)\nfigure y = rank() over (order b)\n"
-                "window w = by a\nfigure z = count() over w\nkeep a = 1 and x < 3 and b is not null\norder b down last\nboard\n")
+        text = ("column a number\ncolumn b number\nfigure x = row() over (by a order b)\n"
+                "figure y = rank() over (order b)\nwindow w = by a\nfigure z = count() over w\n"
+                "keep a = 1 and x < 3 and b is not null\norder b down last\nboard\n")
         self.check(text + "sorts\nfilters",
-                   ["2", "figure x = row() over (by a order b) / figure y = rank() over (order b) / figure z = count() over (by a)"
+                   ["2", "figure x = row() over (by a order b) / figure y = rank() over (order b)"
+                         " / figure z = count() over (by a)"
                          " / keep a = 1 and x < 3 and not b is null / order b down last"])
         self.check('column a number\nwhere a = 1\nkeep a > 0\nboard\nfilters', ["where a = 1 and a > 0"])
 
@@ -141,18 +153,27 @@ class Errors(unittest.TestCase):
             self.bad(f"column a text\nboard\n\nsorts\n{line}", 4)
 
     def test_lines_that_are_not_so_written(self):
-        for line in ("column", "column a", "column text", "column a words", "column a text number", "column a, b text", "column row text",
-                     "column abcdefghi text", "column 4 text", 'column "a" text', "column a .text", ".column a text", "column = text"):
+        for line in ("column", "column a", "column text", "column a words", "column a text number", "column a, b text",
+                     "column row text",
+                     "column abcdefghi text", "column 4 text", 'column "a" text', "column a .text", ".column a text",
+                     "column = text"):
             self.bad(f"{line}\ncolumn a text\nboard", 0)
-        for line in ("row", "row 1", 'row "b"', "row 1,", "row -1 null", "row 1/2 null", "row null null", "row 01 null", "row 1 null,",
-                     "row 1 null null", "row 1 b", "row 1 1/2", "row 1 (null)", "row 1 , null", "row 1 = null", ".row 1 null",
-                     "row 1234567890123456 null", "row 1 -0", "row one null", "where", "order", "window", "where a = b = c", "nothing", "(",
+        for line in ("row", "row 1", 'row "b"', "row 1,", "row -1 null", "row 1/2 null", "row null null",
+                     "row 01 null", "row 1 null,",
+                     "row 1 null null", "row 1 b", "row 1 1/2", "row 1 (null)", "row 1 , null", "row 1 = null",
+                     ".row 1 null",
+                     "row 1234567890123456 null", "row 1 -0", "row one null", "where", "order", "window",
+                     "where a = b = c", "nothing", "(",
                      "Board", "boards", "row 1null", 'row 1 "'):
             self.bad(f"column a text\n{line}\nboard", 1)
-        for line in ("add", "add 1", "add null", "add -1 null", "add 1 null null", "add 1 a", "add 1 2/3", "add 1, null", "change", "change 1",
-                     "change 1 null,", "delete", "delete -1", "delete null", "delete 1 2", "delete 1, 2", "undo 1", "undo undo", "figures 1",
-                     "figures a", "answer a", "why", "why 1", "why a", "why a 1", "why 1 row", "why 1 a b", "why -1 a", "why 1 abcdefghi",
-                     "why 1, a", "sorts 1", "filters a", "computed 1", "computed()", "log", "table", ".undo", "undo ?", '"undo"', "delete 1/1",
+        for line in ("add", "add 1", "add null", "add -1 null", "add 1 null null", "add 1 a", "add 1 2/3",
+                     "add 1, null", "change", "change 1",
+                     "change 1 null,", "delete", "delete -1", "delete null", "delete 1 2", "delete 1, 2", "undo 1",
+                     "undo undo", "figures 1",
+                     "figures a", "answer a", "why", "why 1", "why a", "why a 1", "why 1 row", "why 1 a b", "why -1 a",
+                     "why 1 abcdefghi",
+                     "why 1, a", "sorts 1", "filters a", "computed 1", "computed()", "log", "table", ".undo", "undo ?",
+                     '"undo"', "delete 1/1",
                      "delete 1234567890123456", "4", ","):
             self.bad(f"column a text\nboard\nundo\n{line}\nundo", 3)
 
@@ -211,7 +232,8 @@ class MadeSheets(unittest.TestCase):
                     lines.append(f"why {number} {name}")
                     wanted.append(self.reason(now, query, number, name))
                 else:
-                    lines.append(f"{word} {number}" + ("" if word == "delete" else " " + ", ".join(map(long_value, cells))))
+                    lines.append(f"{word} {number}" + ("" if word == "delete"
+                                                       else " " + ", ".join(map(long_value, cells))))
                     done = {"add": added, "change": changed, "delete": deleted}[word]
                     try:
                         later = done(now, number, cells) if word != "delete" else done(now, number)
@@ -224,7 +246,8 @@ class MadeSheets(unittest.TestCase):
                 lines += ["figures", "answer", "computed", "sorts", "filters"]
                 now = tables[-1]
                 filters = query_text(moved(now[0], query)).replace("\n", " / ")
-                wanted += [self.rows(figures(now, query)), self.rows((one, more) for one, _, more in answer(now, query)),
+                wanted += [self.rows(figures(now, query)),
+                           self.rows((one, more) for one, _, more in answer(now, query)),
                            str(board.computed()), str(fewest_sorts(query[1])), filters]
             text = "\n".join([self.text_of(table, query)] + lines)
             self.assertEqual(answers(text), wanted)

@@ -51,7 +51,8 @@ class Operations(unittest.TestCase):
         self.assertEqual(caught.exception.number, 1)
 
     def test_arguments_by_name_and_lists_for_tuples(self):
-        calls = [("do", {"edits": [("add", 9, ("tea", 1, 1)), ("delete", 1)]}), ("add", {"number": 7, "cells": ("a", 1, 2)}),
+        calls = [("do", {"edits": [("add", 9, ("tea", 1, 1)), ("delete", 1)]}),
+                 ("add", {"number": 7, "cells": ("a", 1, 2)}),
                  ("change", {"number": 7, "cells": ("b", None, 2)}), ("delete", {"number": 2})]
         plain, by_name, lists = Board(SHOP, QUERY), Board(query=QUERY, table=SHOP), Board(listed(SHOP), listed(QUERY))
         for name, arguments in calls:
@@ -273,7 +274,8 @@ class Queries(unittest.TestCase):
     def test_methods_stand_in_the_class_itself(self):
         wanted = {
             "__init__": ["table", "query"], "do": ["edits"], "add": ["number", "cells"], "change": ["number", "cells"],
-            "delete": ["number"], "undo": [], "table": [], "figures": [], "answer": [], "computed": [], "operations": [],
+            "delete": ["number"], "undo": [], "table": [], "figures": [], "answer": [], "computed": [],
+            "operations": [],
             "as_of": ["many"], "twin": [], "log": [], "__eq__": ["other"], "__len__": [], "__repr__": [],
         }
         for name, arguments in wanted.items():

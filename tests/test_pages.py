@@ -104,7 +104,8 @@ class Runs(unittest.TestCase):
     def test_beside_the_words(self):
         luck = random.Random(141)
         for _ in range(200):
-            table, sort = making.table(luck, luck.randrange(16)), making.order(luck, longest=3) or (("a", "up", "last"),)
+            table, sort = making.table(luck, luck.randrange(16)), making.order(luck,
+                                                                               longest=3) or (("a", "up", "last"),)
             page = luck.choice((1, 1, 2, 3))
             room = 3 * page + luck.randrange(5)
             found = runs(table, sort, room, page)
@@ -132,7 +133,8 @@ class Merges(unittest.TestCase):
         for room, page in ((3, 1), (40, 1), (24, 8)):
             self.assertEqual(in_all_forms(self, merges, lengths=[7], room=room, page=page), [])
             each_true(self, shows_merges, [[]], lengths=[7], room=room, page=page)
-            each_false(self, shows_merges, [[()], [(0,)], (), None, [(0, 0)], [(0, 1)]], lengths=[7], room=room, page=page)
+            each_false(self, shows_merges, [[()], [(0,)], (), None, [(0, 0)], [(0, 1)]], lengths=[7], room=room,
+                       page=page)
         self.assertEqual(moved_by([7], []), 0)
 
     def test_beside_a_search_through_all(self):
@@ -169,16 +171,20 @@ class Merges(unittest.TestCase):
     def test_wrong_things(self):
         lengths, right = [3, 2, 4, 1], [(1, 3), (0, 2, 4)]
         each_true(self, shows_merges, [right], lengths=lengths, room=4, page=1)
-        each_false(self, shows_merges, STRAY_VALUES + [listed(right), tuple(right), right[:1], right + [(5,)], right + [()],
+        each_false(self, shows_merges, STRAY_VALUES + [listed(right), tuple(right), right[:1], right + [(5,)],
+                                                       right + [()],
                                                        right + [(5, 6)], [(0, 1, 2, 3)], [(1, True), (0, 2, 4)]],
                    lengths=lengths, room=4, page=1)
-        changed = [list(thing) for thing in one_part_replaced(tuple(right), (None, True, False, 0, 1, 2, 3, 4, 5, -1, "1", (), (0, 1)))
+        changed = [list(thing) for thing in one_part_replaced(tuple(right),
+                                                              (None, True, False, 0, 1, 2, 3, 4, 5, -1, "1", (),
+                                                               (0, 1)))
                    if isinstance(thing, tuple)]
         changed += [list(thing) for thing in one_part_more_or_less(tuple(right))]
         for thing in changed:
             same = repr(thing) == repr(right)
             self.assertIs(shows_merges(lengths, 4, 1, thing), same, thing)
-        ones = [[(0, True), (2, 3)], [(False, 1), (2, 3)], [(1, 0), (2, 3)], [(0, 0), (1, 2)], [(0, 3), (1, 2)], [(0, 1), (0, 2)]]
+        ones = [[(0, True), (2, 3)], [(False, 1), (2, 3)], [(1, 0), (2, 3)], [(0, 0), (1, 2)], [(0, 3), (1, 2)],
+                [(0, 1), (0, 2)]]
         each_false(self, shows_merges, ones, lengths=[1, 1, 1], room=3, page=1)
         each_true(self, shows_merges, [[(0, 1), (2, 3)], [(1, 2), (0, 3)]], lengths=[1, 1, 1], room=3, page=1)
 
@@ -260,7 +266,8 @@ class Spilled(unittest.TestCase):
     def test_figures_that_read_nothing_one_row_or_all(self):
         everything = ("range", ("start",), ("end",), "nobody")
         for frame, fetched in ((everything, 5), (("rows", ("here",), ("here",), "nobody"), 5),
-                               (("rows", ("after", 1), ("here",), "nobody"), 0), (("rows", ("before", 1), ("before", 1), "nobody"), 4)):
+                               (("rows", ("after", 1), ("here",), "nobody"), 0),
+                               (("rows", ("before", 1), ("before", 1), "nobody"), 4)):
             for condition in (None, TEA):
                 self.check((None, (("f", "count", (), condition, ((), (), frame)),), None, ()), (), 15, 1, 0, fetched)
         whole = ("f", "count", (), None, ((), (), everything))
@@ -273,7 +280,8 @@ class Spilled(unittest.TestCase):
         self.check((None, (), None, ()), (), 3, 1, 0, 0)
 
     def test_offsets(self):
-        for function, number, fetched in (("earlier", 0, 5), ("earlier", 1, 5), ("later", 1, 5), ("earlier", 2, 5), ("earlier", 9, 7),
+        for function, number, fetched in (("earlier", 0, 5), ("earlier", 1, 5), ("later", 1, 5), ("earlier", 2, 5),
+                                          ("earlier", 9, 7),
                                           ("later", 9, 7)):
             asked = ("f", function, ("price", number, None, "counted"), None, ((), (), RUNNING))
             with self.subTest(function=function, number=number):
@@ -290,7 +298,8 @@ class Spilled(unittest.TestCase):
         self.check((None, (TOTAL, TOTAL_AGAIN), None, ()), (BY_DAY,), 3, 1, 13, 10)
         self.check((None, (TOTAL,), None, ()), (BY_DAY, BY_DAY, BY_PRICE), 3, 1, 13, 5)
         self.check((None, (TOTAL,), None, ()), (BY_PRICE, BY_DAY), 40, 8, 5, 1)
-        self.check((None, (other,), None, ()), ((("price", "up", "last"), ("day", "up", "last")), BY_PRICE), 40, 8, 5, 0)
+        self.check((None, (other,), None, ()), ((("price", "up", "last"), ("day", "up", "last")), BY_PRICE), 40, 8, 5,
+                   0)
 
     def test_rows_that_where_does_not_keep(self):
         self.check((TEA, (TOTAL,), None, ()), (BY_DAY,), 3, 1, 3, 3)
@@ -301,7 +310,8 @@ class Spilled(unittest.TestCase):
     def test_errors(self):
         query, need = (None, (TOTAL,), None, ()), (("kind",), (("day", "up", "last"),), True)
         error_in_all_forms(self, NoRoom, {"room": 5}, spilled, table=SHOP, query=query, plan=(), room=5, page=2)
-        error_in_all_forms(self, Unserved, {"need": need}, spilled, table=SHOP, query=query, plan=(BY_PRICE,), room=6, page=2)
+        error_in_all_forms(self, Unserved, {"need": need}, spilled, table=SHOP, query=query, plan=(BY_PRICE,), room=6,
+                           page=2)
         other = ("other", "rank", (), None, ((), BY_PRICE, RUNNING))
         error_in_all_forms(self, Unserved, {"need": ((), BY_PRICE, False)}, spilled,
                            table=NO_ROWS, query=(None, (TOTAL, other), None, ()), plan=(), room=3, page=1)

@@ -81,7 +81,8 @@ class Sizes(unittest.TestCase):
                 self.assertEqual(rows_of(call, sign("<>"), order("c"), asked), 2)
             self.assertEqual(rows_of(call, sign("<>"), order("d"), frame("range", 2, 1)), 2)
             self.assertIsNone(rows_of(call, sign("<>"), order("c"), frame("range", 2, 1)))
-        for function, arguments in (("joined", ("a",)), ("joined", ("a", "unlike")), ("least", ("a",)), ("most", ("a",))):
+        for function, arguments in (("joined", ("a",)), ("joined", ("a", "unlike")), ("least", ("a",)),
+                                    ("most", ("a",))):
             figure = ("f", function, arguments, None, ((), order("c"), frame("groups", -3, -2)))
             self.assertEqual(len(parting(searching.TEXTS, (figure,), NULL)[1]), 3)
             figure = ("f", function, arguments, None, ((), order("*c"), frame("groups", -3, -2)))
@@ -193,7 +194,8 @@ class ShowsParting(unittest.TestCase):
         self.check(each_false, (last,), ("compare", DAY, "<", ("plain", 2)), [SHOP])
 
     def test_stray_values(self):
-        self.check(each_false, (PLACED,), OVER, STRAY_VALUES + [deep(16), listed(SHOP), list(SHOP), (listed(COLUMNS), SHOP[1])])
+        self.check(each_false, (PLACED,), OVER, STRAY_VALUES + [deep(16), listed(SHOP), list(SHOP),
+                                                                (listed(COLUMNS), SHOP[1])])
 
     def test_one_part_changed(self):
         table = (COLUMNS, ((0, ("a", 3, 1)), (1, ("a", 4, 1))))

@@ -138,7 +138,8 @@ class Sums(unittest.TestCase):
             self.assertEqual(self.table(sign("<="), order("-*c"), frames), "-+-+")
             self.assertEqual(self.table(NULL, order("c"), frames), "-+-+")
             self.assertEqual(self.table(NOT_NULL, order("c"), frames), "+--+")
-        frames = [frame("rows", "start", 0), frame("rows", 0, "end"), frame("rows", "start", "end"), frame("rows", 0, 0)]
+        frames = [frame("rows", "start", 0), frame("rows", 0, "end"), frame("rows", "start", "end"),
+                  frame("rows", 0, 0)]
         self.assertEqual(self.table(sign("<="), order("d"), frames), "---+")
         self.assertEqual(self.table(sign("<="), order(), frames), "---+")
         frames = [frame("groups", "start", 0), frame("groups", 0, 0), frame("groups", 0, 0, "group")]
@@ -246,7 +247,8 @@ class MayPass(unittest.TestCase):
         self.assertIs(in_all_forms(self, may_pass, columns=COLUMNS, figures=(PLACED,), condition=OVER), False)
         null = ("null", KIND)
         self.assertIs(in_all_forms(self, may_pass, columns=COLUMNS, figures=(TOTAL,), condition=null), True)
-        error_in_all_forms(self, NotFree, {"name": "total"}, may_pass, columns=COLUMNS, figures=(TOTAL,), condition=OVER)
+        error_in_all_forms(self, NotFree, {"name": "total"}, may_pass, columns=COLUMNS, figures=(TOTAL,),
+                           condition=OVER)
 
     def test_several_figures(self):
         other = ("other", "row", (), None, (("kind",), (("price", "down", "last"),), RUNNING))
@@ -258,8 +260,10 @@ class MayPass(unittest.TestCase):
 
     def test_not_simple(self):
         for condition in (
-            ("compare", PRICE, "<", DAY), ("compare", ("plain", 4), "<", PRICE), ("compare", PRICE, "=", ("plain", None)),
-            ("compare", KIND, "=", ("plain", "tea")), ("compare", KIND, "=", ("plain", None)), ("null", ("plain", None)),
+            ("compare", PRICE, "<", DAY), ("compare", ("plain", 4), "<", PRICE),
+            ("compare", PRICE, "=", ("plain", None)),
+            ("compare", KIND, "=", ("plain", "tea")), ("compare", KIND, "=", ("plain", None)),
+            ("null", ("plain", None)),
             ("compare", ("plain", 1), "=", ("plain", 1)), ("not", UPTO), ("not", ("not", ("null", KIND))),
             ("and", UPTO, UPTO), ("or", ("null", KIND), ("null", KIND)), ("not", ("null", ("plain", 3))),
             ("not", ("and", UPTO, UPTO)),

@@ -127,7 +127,8 @@ class ShowsWhy(unittest.TestCase):
         for asked in (TOTAL, figure("row"), PLACE, figure("share"), figure("last", ("kind", "counted"))):
             width = len(why(table, asked, 1))
             for number in numbers:
-                shown = [thing for thing in itertools.product(counted, repeat=width) if shows_why(table, asked, number, thing)]
+                shown = [thing for thing in itertools.product(counted, repeat=width) if shows_why(table, asked, number,
+                                                                                                  thing)]
                 self.assertEqual(shown, [why(table, asked, number)])
 
 

@@ -17,8 +17,8 @@ CHEAP = ("compare", PRICE, "<", ("plain", 4))
 EARLY = ("compare", DAY, "<", ("plain", 2))
 PLAIN = ("range", ("start",), ("here",), "nobody")
 EMPTY = (None, (), None, ())
-FIXED = ("and after before between by down end first group groups here if in is last not null or order over passed range"
-         " row rows start ties to unlike up without").split()
+FIXED = ("and after before between by down end first group groups here if in is last not null or order over passed"
+         " range row rows start ties to unlike up without").split()
 
 
 def number(value):
@@ -48,7 +48,7 @@ class Lines(unittest.TestCase):
             error_in_all_forms(self, wanted, attributes, function, columns=columns, text=text)
 
     def bad(self, line, at=0):
-        """Check that the line of this number is not well written, with a good one behind it and errors of other kinds."""
+        """Check that the line of this number is not well written, with errors of other kinds behind it."""
         with self.subTest(line=line):
             text = "\n" * at + line + "\nwhere price = 1\nwhere price = 2\nfigure x = y() over z"
             for function in (query_in, windows_in):
@@ -106,8 +106,10 @@ class Tokens(Lines):
         self.assertEqual(condition('null is null and"a"=kind'), condition('null is null and "a" = kind'))
 
     def test_blanks_that_must_be(self):
-        for line in ("where price=1and day=2", "orderprice", "where price = 1 2", "where price1 = 1", "where 1price = 1",
-                     "order price.day", "where .price1 = 2", "figure x = tile(3) over (rows 1before)", "where price = 1 .day"):
+        for line in ("where price=1and day=2", "orderprice", "where price = 1 2", "where price1 = 1",
+                     "where 1price = 1",
+                     "order price.day", "where .price1 = 2", "figure x = tile(3) over (rows 1before)",
+                     "where price = 1 .day"):
             self.bad(line)
         self.assertEqual(told("order.price"), (None, (), None, (("price", "up", "last"),)))
 
@@ -122,7 +124,8 @@ class Tokens(Lines):
         for text, value in (("0", 0), ("7", 7), ("-7", -7), ("123456789012345", 123456789012345),
                             ("-999999999999999", -999999999999999), ("10", 10), ("100", 100)):
             self.assertEqual(condition(f"price = {text}"), ("compare", PRICE, "=", number(value)))
-        for text in ("00", "01", "-0", "-00", "-01", "1234567890123456", "-1234567890123456", "0" * 16, "--1", "- 1", "+1",
+        for text in ("00", "01", "-0", "-00", "-01", "1234567890123456", "-1234567890123456", "0" * 16, "--1", "- 1",
+                     "+1",
                      "1.5", "1_0", "-", "1e3", "\u0663", "\u00b2"):
             self.bad(f"where price = {text}")
 
@@ -135,13 +138,16 @@ class Tokens(Lines):
             self.raises(Misfit, {"number": 1}, f"\nwhere price = {text}")
             self.raises(Misfit, {"number": 0}, f"figure x = count() if price = {text} over ()")
             self.raises(Misfit, {"number": 0}, f"keep kind = {text}")
-        for text in ("2/4", "0/2", "1/0", "-0/1", "1/-2", "1 /2", "1/ 2", "1/", "/2", "1/2/3", "01/2", "1/02", "1/1000000000000000",
+        for text in ("2/4", "0/2", "1/0", "-0/1", "1/-2", "1 /2", "1/ 2", "1/", "/2", "1/2/3", "01/2", "1/02",
+                     "1/1000000000000000",
                      "1000000000000001/2", "0/0", "1//2", "4/2", "-2/4", "1/a"):
             self.bad(f"keep price = {text}")
 
     def test_texts(self):
-        for text, value in (('""', ""), ('"tea"', "tea"), ('""""', '"'), ('"a""b"', 'a"b'), ('""""""', '""'), ('" "', " "),
-                            ('"""a"', '"a'), ('"a"""', 'a"'), ('"(,) and .price \'=<"', "(,) and .price '=<"), ('"~"', "~")):
+        for text, value in (('""', ""), ('"tea"', "tea"), ('""""', '"'), ('"a""b"', 'a"b'), ('""""""', '""'),
+                            ('" "', " "),
+                            ('"""a"', '"a'), ('"a"""', 'a"'), ('"(,) and .price \'=<"', "(,) and .price '=<"),
+                            ('"~"', "~")):
             self.assertEqual(condition(f"kind = {text}"), ("compare", KIND, "=", number(value)))
             self.assertEqual(condition(f"{text}<>kind"), ("compare", number(value), "<>", KIND))
         for text in ('"', '"tea', 'tea"', '"""', '"a"b"', '"a" "b"', "'tea'", '"""""'):
@@ -151,7 +157,8 @@ class Tokens(Lines):
         for sign in ("=", "<>", "<", "<=", ">", ">="):
             self.assertEqual(condition(f"price{sign}4"), ("compare", PRICE, sign, number(4)))
         self.assertEqual(condition("price<-4"), ("compare", PRICE, "<", number(-4)))
-        for sign in ("==", "><", "=<", "=>", "< >", "< =", "!=", "<<", "<>=", "<=>", "", "(", ")", ",", "is", "in", "not"):
+        for sign in ("==", "><", "=<", "=>", "< >", "< =", "!=", "<<", "<>=", "<=>", "", "(", ")", ",", "is", "in",
+                     "not"):
             self.bad(f"where price {sign} 4")
 
     def test_names(self):
@@ -161,12 +168,14 @@ class Tokens(Lines):
             if name != "null":
                 with self.assertRaises(BadLine):
                     condition(f"{name} = 1", columns)
-        others = ("where", "keep", "window", "figure", "board", "column", "text", "number", "add", "counted", "nobody", "nth",
+        others = ("where", "keep", "window", "figure", "board", "column", "text", "number", "add", "counted", "nobody",
+                  "nth",
                   "earlier", "count", "wa", "a", "abcdefgh", "with")
         columns = tuple((name, "number") for name in others)
         for name in others:
             for written in (name, f".{name}"):
-                text = f"where {written} = 1\nfigure x = sum({written}) over (by {written} order {written})\norder {written}"
+                text = (f"where {written} = 1\norder {written}\n"
+                        f"figure x = sum({written}) over (by {written} order {written})")
                 query = query_in(columns, text)
                 self.assertEqual(query[0][1], ("column", name))
                 self.assertEqual(query[1][0][4], ((name,), ((name, "up", "last"),), PLAIN))
@@ -200,7 +209,8 @@ class Clauses(Lines):
         lines = ["where price = 1", "figure x = count() over ()", "keep x = 1", "order x"]
         for text in itertools.permutations(lines):
             self.assertEqual(told("\n \n".join(text)), told("\n".join(lines)))
-        self.assertEqual([one[0] for one in told("figure b = count() over ()\nfigure a = count() over ()")[1]], ["b", "a"])
+        self.assertEqual([one[0] for one in told("figure b = count() over ()\nfigure a = count() over ()")[1]],
+                         ["b", "a"])
 
     def test_lines_that_are_none(self):
         for line in ("price = 1", "where", "keep", "window", "figure", "select price", "where price", "where price =",
@@ -255,8 +265,10 @@ class Clauses(Lines):
                 self.assertEqual(strict(figure(f"count() if {text} over ()")[3]), strict(wanted))
 
     def test_conditions_that_are_none(self):
-        for text in ("()", "(price = 1", "price = 1)", "price", "not", "price = 1 and", "and price = 1", "price = 1 or or day = 1",
-                     "price is", "price is not", "price not null", "price is null null", "price is 4", "price not in (1)",
+        for text in ("()", "(price = 1", "price = 1)", "price", "not", "price = 1 and", "and price = 1",
+                     "price = 1 or or day = 1",
+                     "price is", "price is not", "price not null", "price is null null", "price is 4",
+                     "price not in (1)",
                      "price in ()", "price in 1", "price in (1", "price in (1,)", "price in ((1))", "price between 1",
                      "price between 1 or 2", "price between (1 and 2)", "price not between 1 and 2", "1 = 2 = 3",
                      "(price) = 1", "price = (1)", "price = not 1", "price = 1 not", "price = unlike", "price = passed",
@@ -277,7 +289,8 @@ class Windows(Lines):
             ("rows start", ((), (), running)),
             ("rows start to here", ((), (), running)),
             ("range start to here", ((), (), PLAIN)),
-            ("by kind order day, price rows start", (("kind",), (("day", "up", "last"), ("price", "up", "last")), running)),
+            ("by kind order day, price rows start", (("kind",), (("day", "up", "last"), ("price", "up", "last")),
+                                                     running)),
             ("groups 2 before", ((), (), ("groups", ("before", 2), ("here",), "nobody"))),
             ("rows 2 after", ((), (), ("rows", ("after", 2), ("here",), "nobody"))),
             ("rows 2 before to 0 after", ((), (), ("rows", ("before", 2), ("after", 0), "nobody"))),
@@ -295,17 +308,22 @@ class Windows(Lines):
 
     def test_specs_that_are_not_so_written(self):
         for text in ("by", "order", "rows", "by kind by day", "order day by kind", "rows start order day", "by kind,",
-                     "rows start here", "rows to here", "rows start to", "rows -1 before", "rows 1/2 before", "rows before",
+                     "rows start here", "rows to here", "rows start to", "rows -1 before", "rows 1/2 before",
+                     "rows before",
                      "rows 1", "rows start without", "rows start without nobody", "rows start without rows",
-                     "rows without row", "rows start to here to end", "by kind day", "by 4", "range unlike", "group start",
-                     "row start", "start", "rows 1 here", "rows one before", "rows start range start", "(by kind)", ", by kind",
+                     "rows without row", "rows start to here to end", "by kind day", "by 4", "range unlike",
+                     "group start",
+                     "row start", "start", "rows 1 here", "rows one before", "rows start range start", "(by kind)",
+                     ", by kind",
                      "rows null before", '"w"', "w w", "by .order.by"):
             self.bad(f"window w = {text}")
             self.bad(f"figure x = count() over ({text})")
 
     def test_windows_that_fit_no_columns(self):
-        for text in ("by color", "by kind, kind", "order color", "rows end", "rows end to end", "rows start to start", "range 1 before",
-                     "rows here to start", "order kind range 1 before", "order day, price range here to 1 after", "by day range 0 after",
+        for text in ("by color", "by kind, kind", "order color", "rows end", "rows end to end", "rows start to start",
+                     "range 1 before",
+                     "rows here to start", "order kind range 1 before", "order day, price range here to 1 after",
+                     "by day range 0 after",
                      "order day range end"):
             self.raises(Misfit, {"number": 1}, f"\nwindow w = {text}")
             self.raises(Misfit, {"number": 2}, f"\nwindow w = by kind\nfigure x = count() over ({text})")
@@ -335,10 +353,12 @@ class Windows(Lines):
         self.assertEqual(told("window w = rows start\nfigure x = count() over w")[1][0][4], ((), (), RUNNING))
 
     def test_fixed(self):
-        base = "window w = by kind\nwindow v = order day\nwindow u = order day rows start\nwindow t = range start to here\n"
-        base += "window s = w order price\n"
-        for name, more in (("w", "by kind"), ("w", "by day rows start"), ("v", "order day"), ("v", "by kind"), ("v", "by kind order price"),
-                           ("u", ""), ("u", "rows start"), ("u", "by kind"), ("t", ""), ("t", "order day"), ("s", "order day"),
+        base = ("window w = by kind\nwindow v = order day\nwindow u = order day rows start\n"
+                "window t = range start to here\nwindow s = w order price\n")
+        for name, more in (("w", "by kind"), ("w", "by day rows start"), ("v", "order day"), ("v", "by kind"),
+                           ("v", "by kind order price"),
+                           ("u", ""), ("u", "rows start"), ("u", "by kind"), ("t", ""), ("t", "order day"),
+                           ("s", "order day"),
                            ("s", "by color"), ("u", "rows end")):
             self.raises(Fixed, {"name": name}, f"{base}window x = {name} {more}")
             self.raises(Fixed, {"name": name}, f"{base}figure x = nothing(color) over (.{name} {more})")
@@ -353,7 +373,8 @@ class Windows(Lines):
         self.raises(NoWindow, {"name": "kind"}, "figure x = count() over kind")
 
     def test_names_of_windows_and_figures_are_apart(self):
-        text = "window kind = by kind\nwindow x = kind\nfigure x = count() over x\nfigure w = count() over kind\nwindow w = by day"
+        text = ("window kind = by kind\nwindow x = kind\nfigure x = count() over x\nfigure w = count() over kind\n"
+                "window w = by day")
         self.assertEqual([name for name, _ in windows_in(COLUMNS, text)], ["kind", "x", "w"])
         self.assertEqual([one[0] for one in told(text)[1]], ["x", "w"])
 
@@ -371,22 +392,27 @@ class Figures(Lines):
             ("later(kind, 1, passed)", ("later", ("kind", 1, None, "passed"))),
             ("later(kind, 1, null, passed)", ("later", ("kind", 1, None, "passed"))),
             ("first(kind)", ("first", ("kind", "counted"))), ("last(kind, passed)", ("last", ("kind", "passed"))),
-            ("nth(kind, 2)", ("nth", ("kind", 2, "counted"))), ("nth(.kind, 2, passed)", ("nth", ("kind", 2, "passed"))),
+            ("nth(kind, 2)", ("nth", ("kind", 2, "counted"))),
+            ("nth(.kind, 2, passed)", ("nth", ("kind", 2, "passed"))),
         ):
             with self.subTest(text=text):
                 self.assertEqual(strict(figure(f"{text} over ()")[1:4]), strict((*wanted, None)))
 
     def test_calls_that_are_none(self):
         for text in (
-            "tile()", "tile(0)", "tile(-1)", "tile(1, 2)", "tile(kind)", 'tile("kind")', "tile(null)", "tile(1/2)", "row(1)",
+            "tile()", "tile(0)", "tile(-1)", "tile(1, 2)", "tile(kind)", 'tile("kind")', "tile(null)", "tile(1/2)",
+            "row(1)",
             "row(kind)", "row(passed)", "rank(unlike)", "count(unlike)", "count(passed)", "count(1)", 'count("kind")',
-            "count(color)", "count(kind, passed)", "count(kind, day)", "count(kind, unlike, unlike)", 'count(kind, "unlike")',
+            "count(color)", "count(kind, passed)", "count(kind, day)", "count(kind, unlike, unlike)",
+            'count(kind, "unlike")',
             "sum(kind)", "sum()", "mean(kind, unlike)", "joined(day)", "least(day, unlike)", "earlier(price)",
             "earlier(price, passed)", 'earlier("price", 1)', "earlier(1, price)", "earlier(price, -1)",
-            'earlier(price, 1, "a")', "earlier(price, 1, day)", "earlier(price, 1, 1/2)", "earlier(price, 1, 0, counted)",
+            'earlier(price, 1, "a")', "earlier(price, 1, day)", "earlier(price, 1, 1/2)",
+            "earlier(price, 1, 0, counted)",
             "earlier(price, 1, passed, 0)", "earlier(price, 1, 0, unlike)", "earlier(price, 1, passed, passed)",
             'earlier(price, 1, 0, "passed")', "earlier(kind, 1, 3)", "earlier(price, null)", "later(passed, price, 1)",
-            "first()", "first(kind, 1)", "first(kind, unlike)", "first(kind, counted)", "first(kind, null)", "first(passed)",
+            "first()", "first(kind, 1)", "first(kind, unlike)", "first(kind, counted)", "first(kind, null)",
+            "first(passed)",
             "last(kind, passed, passed)", "nth(kind)", "nth(kind, 0)", "nth(kind, passed)", "nth(kind, passed, 2)",
             "nth(kind, 1, null)", "nth(kind, day)", "nothing()", "groups()", "kind(kind)", "abcdefghijkl(1, passed)",
             "unlike(unlike)", "order()", "null(null)",
@@ -399,10 +425,12 @@ class Figures(Lines):
                      "count() over (by kind", "count() over by kind", "count() if over ()", "count() if price = 1",
                      "count() (by kind)", "over ()", "4() over ()", '"count"() over ()', "count() over () if price = 1",
                      "count()() over ()", "count(price = 1) over ()", "count(sum(price)) over ()", "count() over ()()",
-                     "first(row) over ()", "first(by) over ()", "count(*) over ()", "count() over order", "count() over 4"):
+                     "first(row) over ()", "first(by) over ()", "count(*) over ()", "count() over order",
+                     "count() over 4"):
             self.bad(f"figure x = {text}")
         for text in ("figure = count() over ()", "figure order = count() over ()", "figure x count() over ()",
-                     "figure abcdefghi = count() over ()", "figure x = = count() over ()", "figure 4 = count() over ()"):
+                     "figure abcdefghi = count() over ()", "figure x = = count() over ()",
+                     "figure 4 = count() over ()"):
             self.bad(text)
 
     def test_conditions_belong_to_sums(self):
@@ -423,7 +451,8 @@ class Errors(Lines):
     def test_twice(self):
         for word, clause in (("where", "price = 1"), ("keep", "price = 1"), ("order", "price")):
             self.raises(Twice, {"name": word}, f"{word} {clause}\n\n{word} {clause}")
-            self.raises(Twice, {"name": word}, f"{word} {clause}\n{word} {clause.replace('price', 'color')}\nwhere color = 1")
+            self.raises(Twice, {"name": word},
+                        f"{word} {clause}\n{word} {clause.replace('price', 'color')}\nwhere color = 1")
         self.raises(Twice, {"name": "w"}, "window w = by kind\nwindow v = by kind\nwindow .w = by color")
         self.raises(Twice, {"name": "w"}, "window w = by kind\nwindow w = u by day")
         self.raises(Twice, {"name": "price"}, "figure price = count() over w")
@@ -452,7 +481,8 @@ class Errors(Lines):
             self.raises(Misfit, {"number": 2}, f"\n\nwhere {text}")
 
     def test_same_query(self):
-        one, other = "figure x = count() over (order day up last range start to here)", "figure x = count() over (order day)"
+        one = "figure x = count() over (order day up last range start to here)"
+        other = "figure x = count() over (order day)"
         self.assertIs(in_all_forms(self, same_query, columns=COLUMNS, one=one, other=other), True)
         self.assertIs(in_all_forms(self, same_query, columns=COLUMNS, one=one, other=f"\n{other}\norder day"), False)
         self.assertIs(same_query(COLUMNS, "where price = 1 and day = 1", "where day = 1 and price = 1"), False)
@@ -519,15 +549,18 @@ class Written(unittest.TestCase):
             (("null", number("a\"b")), '"a""b" is null'),
             (("compare", number(None), "<>", number(-5)), "null <> -5"),
             (("compare", KIND, ">=", number("")), 'kind >= ""'),
-            (("and", ("compare", PRICE, ">=", number(1)), ("compare", PRICE, "<=", number(2))), "price >= 1 and price <= 2"),
+            (("and", ("compare", PRICE, ">=", number(1)), ("compare", PRICE, "<=", number(2))),
+             "price >= 1 and price <= 2"),
         ):
             self.check((asked, (), None, ()), f"where {text}")
             self.check((None, (), asked, ()), f"keep {text}")
-            self.check((None, (("f", "count", (), asked, ((), (), PLAIN)),), None, ()), f"figure f = count() if {text} over ()")
+            self.check((None, (("f", "count", (), asked, ((), (), PLAIN)),), None, ()),
+                       f"figure f = count() if {text} over ()")
         self.check((None, (), ("compare", PRICE, "<", number((-1, 2))), ()), "keep price < -1/2")
 
     def test_orders(self):
-        for way, nulls, text in (("up", "last", ""), ("up", "first", " first"), ("down", "first", " down"), ("down", "last", " down last")):
+        for way, nulls, text in (("up", "last", ""), ("up", "first", " first"), ("down", "first", " down"),
+                                 ("down", "last", " down last")):
             order = (("day", way, nulls), ("kind", way, nulls))
             self.check((None, (), None, order), f"order day{text}, kind{text}")
             whole = ("f", "count", (), None, ((), order, PLAIN))
@@ -535,7 +568,8 @@ class Written(unittest.TestCase):
 
     def test_calls(self):
         for call, text in (
-            (("tile", (3,)), "tile(3)"), (("percent", ()), "percent()"), (("count", ("kind", "unlike")), "count(kind, unlike)"),
+            (("tile", (3,)), "tile(3)"), (("percent", ()), "percent()"),
+            (("count", ("kind", "unlike")), "count(kind, unlike)"),
             (("earlier", ("price", 1, None, "counted")), "earlier(price, 1)"),
             (("earlier", ("price", 1, None, "passed")), "earlier(price, 1, passed)"),
             (("later", ("kind", 0, 'a"', "passed")), 'later(kind, 0, "a""", passed)'),
@@ -547,8 +581,10 @@ class Written(unittest.TestCase):
 
     def test_frames(self):
         for frame, text in (
-            (("rows", ("start",), ("here",), "nobody"), "rows start"), (("range", ("start",), ("end",), "nobody"), "range start to end"),
-            (("range", ("start",), ("here",), "row"), "range start without row"), (("groups", ("here",), ("here",), "ties"), "groups here without ties"),
+            (("rows", ("start",), ("here",), "nobody"), "rows start"),
+            (("range", ("start",), ("end",), "nobody"), "range start to end"),
+            (("range", ("start",), ("here",), "row"), "range start without row"),
+            (("groups", ("here",), ("here",), "ties"), "groups here without ties"),
             (("rows", ("before", 0), ("after", 0), "group"), "rows 0 before to 0 after without group"),
             (("range", ("after", 2), ("here",), "nobody"), "range 2 after"),
         ):
@@ -561,21 +597,27 @@ class Written(unittest.TestCase):
         rows, day, price = RUNNING, (("day", "up", "last"),), (("price", "down", "first"),)
 
         def query(*windows):
-            return (None, tuple((f"f{'abcdef'[place]}", "count", (), None, one) for place, one in enumerate(windows)), None, ())
+            return (None, tuple((f"f{'abcdef'[place]}", "count", (), None, one) for place, one in enumerate(windows)),
+                    None, ())
 
         def named(*windows):
             found = named_text(query(*windows))
             self.assertEqual(query_in(COLUMNS, found), query(*windows))
-            return [line.split(" = ")[1] if " = " in line else "" for line in found.split("\n") if line.startswith("window")]
-        self.assertEqual(named((("kind",), (), PLAIN), (("kind",), day, PLAIN), (("kind",), day, rows), (("kind",), price, rows)),
+            return [line.split(" = ")[1] if " = " in line else "" for line in found.split("\n")
+                    if line.startswith("window")]
+        self.assertEqual(named((("kind",), (), PLAIN), (("kind",), day, PLAIN), (("kind",), day, rows),
+                               (("kind",), price, rows)),
                          ["by kind", "wa order day", "wa order day rows start", "wa order price down rows start"])
-        self.assertEqual(named((("kind",), day, PLAIN), (("kind",), day, rows), (("kind",), (), PLAIN), (("kind",), (), rows)),
+        self.assertEqual(named((("kind",), day, PLAIN), (("kind",), day, rows), (("kind",), (), PLAIN),
+                               (("kind",), (), rows)),
                          ["by kind order day", "wa rows start", "by kind", "wc rows start"])
-        self.assertEqual(named(((), day, PLAIN), ((), day, rows), ((), (), PLAIN), ((), price, PLAIN), ((), price, rows)),
+        self.assertEqual(named(((), day, PLAIN), ((), day, rows), ((), (), PLAIN), ((), price, PLAIN),
+                               ((), price, rows)),
                          ["order day", "wa rows start", "", "order price down", "wd rows start"])
         self.assertEqual(named((("kind",), day, rows), (("kind",), day, PLAIN), (("kind",), day, rows)),
                          ["by kind order day rows start", "by kind order day"])
-        self.assertEqual(named((("kind", "day"), (), PLAIN), (("day", "kind"), (), PLAIN), (("day", "kind"), price, PLAIN)),
+        self.assertEqual(named((("kind", "day"), (), PLAIN), (("day", "kind"), (), PLAIN),
+                               (("day", "kind"), price, PLAIN)),
                          ["by kind, day", "by day, kind", "wb order price down"])
         self.assertEqual(named((("kind",), (), ("range", ("start",), ("here",), "row")), (("kind",), day, PLAIN)),
                          ["by kind range start without row", "by kind order day"])
@@ -587,7 +629,8 @@ class Written(unittest.TestCase):
                    "\n".join([lines[0], "window wa = by kind order day rows start", *lines[1:]]))
 
     def test_many_windows(self):
-        figures = tuple((f"f{one}{other}", "count", (), None, ((), (), ("rows", ("before", place), ("here",), "nobody")))
+        figures = tuple((f"f{one}{other}", "count", (), None,
+                         ((), (), ("rows", ("before", place), ("here",), "nobody")))
                         for place, (one, other) in enumerate(itertools.product("abcdef", "abcdef")))
         text = named_text((None, figures, None, ()))
         self.assertEqual(query_in(COLUMNS, text)[1], figures)
@@ -599,7 +642,8 @@ class Written(unittest.TestCase):
             for text in (query_text(query), named_text(query)):
                 self.assertEqual(strict(query_in(ODD_COLUMNS, text)), strict(query), text)
                 self.assertTrue(same_query(ODD_COLUMNS, text, query_text(query)))
-                self.assertFalse(text.endswith("\n") or "  " in text or " \n" in text or "( " in text or " )" in text, text)
+                self.assertFalse(text.endswith("\n") or "  " in text or " \n" in text or "( " in text or " )" in text,
+                                 text)
 
     def test_nothing_more_may_be_left_out(self):
         for query in many_queries(112, 60):

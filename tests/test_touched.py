@@ -64,8 +64,10 @@ class Touched(unittest.TestCase):
     def test_rows_that_where_keeps_in_one_table_only(self):
         query = (TEA, (TOTAL,), ("null", ("column", "day")), ())
         later = changed(changed(SHOP, 3, ("tea", 1, 1)), 1, (None, 3, 1))
-        self.check(SHOP, later, query, [(1, "total", "gone"), (2, "total", "look"), (3, "total", "new"), (4, "total", "look")])
-        self.check(later, SHOP, query, [(1, "total", "new"), (2, "total", "look"), (3, "total", "gone"), (4, "total", "look")])
+        self.check(SHOP, later, query, [(1, "total", "gone"), (2, "total", "look"), (3, "total", "new"),
+                                        (4, "total", "look")])
+        self.check(later, SHOP, query, [(1, "total", "new"), (2, "total", "look"), (3, "total", "gone"),
+                                        (4, "total", "look")])
 
     def test_cells_that_no_look_reads(self):
         self.check(SHOP, changed(SHOP, 4, ("tea", 5, 9)), (None, (TOTAL,), ("null", ("column", "day")), ()), [])

@@ -109,7 +109,8 @@ class Whole(unittest.TestCase):
             lines += [query_text(query), "board"]
             lines += [f"add {number} {', '.join(self.cell(cell) for cell in cells)}" for number, cells in table[1]]
             found = answers("\n".join(lines + ["answer"]))[-1]
-            self.assertEqual(found.split("; "), [" ".join([str(row[0]), *map(self.cell, row[2])]) for row in answer(table, query)]
+            self.assertEqual(found.split("; "),
+                             [" ".join([str(row[0]), *map(self.cell, row[2])]) for row in answer(table, query)]
                              or ["-"])
             later = making.table(luck, 5)
             edits = [("delete", number) for number, _ in table[1]] + [("add", *row) for row in later[1]]
@@ -138,7 +139,8 @@ class Whole(unittest.TestCase):
                 boards[number].undo()
 
     def test_returned_values_may_be_passed_in_again(self):
-        figure = ("f", "nth", ("price", 50, "counted"), None, ((), (("day", "up", "last"),), ("rows", ("start",), ("before", 50), "nobody")))
+        figure = ("f", "nth", ("price", 50, "counted"), None,
+                  ((), (("day", "up", "last"),), ("rows", ("start",), ("before", 50), "nobody")))
         condition = ("compare", ("column", "day"), "<>", ("plain", 3))
         table = parting(SHOP[0], (figure,), condition)
         self.assertEqual(len(table[1]), 100)
