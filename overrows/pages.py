@@ -41,8 +41,8 @@ def merges(lengths, room, page):
     following = len(left)
     found = []
     while len(left) > 1:
-        # Fewer runs come first, so that each later merge can take as many as it may.
-        many = most if found else (len(left) - 2) % (most - 1) + 2
+        # The first merge takes so few that each later one can take as many as it may.
+        many = (len(left) - 2) % (most - 1) + 2
         taken, left = sorted(left)[:many], sorted(left)[many:]
         found.append(tuple(sorted([number for _, number in taken])))
         left.append((sum([length for length, _ in taken]), following))

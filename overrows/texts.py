@@ -160,7 +160,8 @@ def _arguments_told(function, args):
     if is_sum(function):
         return values if kinds in ([], ["column"], ["column", "word"]) else None
     if function not in OFFSETS:
-        return values if all([kind == "plain" for kind in kinds]) else None
+        # Of these only a rank takes arguments, and none that a NAME or a word could be taken for.
+        return values
     nulls = "counted"
     if args[-1:] == (("word", "passed"),):
         nulls, kinds, values = "passed", kinds[:-1], values[:-1]

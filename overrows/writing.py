@@ -61,7 +61,7 @@ def spec_text(window, base, base_order):
     words = [] if base is None else [name_text(base)]
     if base is None and len(parts) > 0:
         words.append("by " + ", ".join([name_text(name) for name in parts]))
-    if len(order) > 0 and order != base_order:
+    if order != base_order:
         words.append("order " + order_text(order))
     if frame != PLAIN_FRAME:
         words.append(_frame_text(frame))

@@ -186,6 +186,9 @@ class Merges(unittest.TestCase):
         ones = [[(0, True), (2, 3)], [(False, 1), (2, 3)], [(1, 0), (2, 3)], [(0, 0), (1, 2)], [(0, 3), (1, 2)],
                 [(0, 1), (0, 2)]]
         each_false(self, shows_merges, ones, lengths=[1, 1, 1], room=3, page=1)
+        # These move as few rows as possible, but two at a time is all that the room is for.
+        each_false(self, shows_merges, [[(0,), (3,), (1, 2, 4)]], lengths=[1, 1, 1], room=3, page=1)
+        each_false(self, shows_merges, [[(0, 1, 2), (3, 5), (4, 6)]], lengths=[1] * 5, room=3, page=1)
         each_true(self, shows_merges, [[(0, 1), (2, 3)], [(1, 2), (0, 3)]], lengths=[1, 1, 1], room=3, page=1)
 
     def test_no_room(self):

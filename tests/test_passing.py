@@ -233,6 +233,11 @@ class Chosen(unittest.TestCase):
         self.assertEqual(least(NULL, order("*c"), frame("rows", -2, "end", "group")), None)
         self.assertEqual(least(NULL, order("*c"), frame("rows", "start", 3, "group")), 4)
         self.assertEqual(least(NULL, order("*c", "d"), frame("rows", "start", 3, "group")), None)
+        self.assertEqual(least(NULL, order("*c"), frame("rows", "start", 3, "ties")), 5)
+        self.assertEqual(least(sign("<="), order("c"), frame("rows", -2, 3, "group")), 6)
+        self.assertEqual(least(NOT_NULL, order("*c"), frame("rows", -2, 3, "ties")), 7)
+        self.assertEqual(least(sign("="), order("d"), frame("rows", -5, -3, "row")), 4)
+        self.assertEqual(least(sign("="), order("d"), frame("rows", 3, 5, "group")), 4)
 
     def test_range_along_c_of_rows_without_a_value(self):
         self.assertEqual(self.both(NULL, order("*c"), frame("range", 1, "end")), "+-+-")
@@ -283,7 +288,7 @@ class MayPass(unittest.TestCase):
             free = ("free", "row", (), None, window)
             with self.subTest(number=number):
                 error_in_all_forms(self, NotFree, {"name": "bad"}, may_pass,
-                                   columns=COLUMNS, figures=(free, figure, (*figure[:2], *TOTAL[2:])), condition=OVER)
+                                   columns=COLUMNS, figures=(free, figure, TOTAL), condition=OVER)
         joined = ("joined", "joined", ("kind",), None, ALL_SO_FAR)
         error_in_all_forms(self, NotFree, {"name": "joined"}, may_pass,
                            columns=COLUMNS, figures=(joined, TOTAL), condition=LATE)
@@ -346,6 +351,10 @@ class Moved(unittest.TestCase):
         self.check((None, (), ("and", UPTO, KNOWN), ()), (("and", UPTO, KNOWN), (), None, ()))
         counted = ("counted", "count", (), UPTO, ((), (), RUNNING))
         self.check((None, (counted,), KNOWN, ()), (None, (counted,), KNOWN, ()))
+        in_parts = ("counted", "count", (), UPTO, (("kind",), (), RUNNING))
+        self.check((None, (in_parts,), KNOWN, ()), (None, (in_parts,), KNOWN, ()))
+        same = ("same", "first", ("kind", "counted"), None, (("kind",), (), RUNNING))
+        self.check((None, (same,), KNOWN, ()), (None, (same,), KNOWN, ()))
 
     def test_made_queries_keep_their_answers(self):
         luck = random.Random(132)
