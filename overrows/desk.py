@@ -60,13 +60,13 @@ class Sheet:
         if stage == QUERY_STAGE:
             self.query_lines.append((reader.number, line_told(reader)))
             return
-        word, *said = _sheet_line(reader)
-        if word == "column":
-            self.columns.append(tuple(said))
-        elif word == "row":
-            self.rows.append(tuple(said))
-        elif word != "board":
-            self.requests.append((word, *said))
+        said = _sheet_line(reader)
+        if said[0] == "column":
+            self.columns.append(said[1:])
+        elif said[0] == "row":
+            self.rows.append(said[1:])
+        elif said[0] != "board":
+            self.requests.append(said)
 
     def table(self):
         """The TABLE of the columns and rows."""

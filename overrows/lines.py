@@ -124,7 +124,7 @@ def line_told(reader):
         reader.expect("sign", "=")
         said = (word, name, _spec(reader))
     else:
-        said = (word, *_figure(reader))
+        said = _figure(reader)
     reader.close()
     return said
 
@@ -203,10 +203,10 @@ def _figure(reader):
     condition = _condition(reader) if reader.takes("word", "if") else None
     reader.expect("word", "over")
     if not reader.takes("sign", "("):
-        return name, function, args, condition, None, reader.name_told()
+        return "figure", name, function, args, condition, None, reader.name_told()
     spec = _spec(reader)
     reader.expect("sign", ")")
-    return name, function, args, condition, spec, None
+    return "figure", name, function, args, condition, spec, None
 
 
 def _arg(reader):
